@@ -1,0 +1,1 @@
+"""Signalwise: programs of instants, settled sign by sign."""
