@@ -66,6 +66,11 @@ class Sampler:
         cut = self.chance.randint(0, len(names))
         return (names[:cut], names[cut:], self.block(size, names, []))
 
+    def some(self, signs):
+        """Some of the signs, rising."""
+        share = self.chance.choice((0, 0.2, 0.5, 0.8, 1))
+        return [sign for sign in signs if self.chance.random() < share]
+
     def wordy(self, named):
         """A text of the named program with needless braces, blanks and elses in it."""
         pieces = ["in", *named[0], ";", "out", *named[1], ";", *self.block_pieces(named[2])]
@@ -142,3 +147,15 @@ def fresh_name(number, size):
     if size < 4:
         return "q" * size
     return "q" * (size - 3) + "".join("bcdfghjklmnprtvwxyz"[number // 19 ** place % 19] for place in range(3))
+
+
+def reachable(program, chance, instant, most):
+    """Some of the states to which the program can come, whatever signs are said to be there: None first."""
+    states = [None]
+    for state in states:
+        for _ in range(4):
+            there = [sign for sign in range(program[2]) if chance.random() < 0.5]
+            behind = instant(program, state, there)[2]
+            if behind not in states and len(states) < most:
+                states.append(behind)
+    return states

@@ -4,12 +4,45 @@ import copy
 import unittest
 
 from samples import Sampler, open_marks
+from signalwise.gates import ring, steps, values
+from signalwise.instants import fits, instant, ran
 from signalwise.plain import plain
 from signalwise.reading import read
 from signalwise.rests import rests_of, resting
+from signalwise.settling import rounds, settled
 from signalwise.showing import parts, shown
+from signalwise.walking import walked
 
 TEXT = "in a b;out c;local s{again{if a{send s;rest}else{weak b{keep c}}}}"
+HELD = "in a b;out c d;hold a{rest;send c|await b;send d|again{if c{send d}}}"
+NET = ([("given", (1,)), ("memory", (0,)), ("some", (0, 3)), ("not", (2,)), ("start", ()), ("not", (5,)), ("all", ())],
+       [0, 2], (4, 6), [1])
+
+
+def askings():
+    """Each function of the instants, the settling and the gates, with what is handed in to it."""
+    program = plain(read(HELD))
+    for state in (None, [], [0, 1, 2], [1, 2]):
+        for signs in ([], [0], [1], [1, 3], [0, 1, 2, 3]):
+            for sure in (True, False):
+                yield walked, (program[3], state, sure, [True if sign in signs else None for sign in range(4)])
+            yield ran, (program[3], state, signs)
+            yield instant, (program, state, signs)
+            yield fits, (program, state, list(reversed(signs)), [3, 0])
+            yield rounds, (program, state, signs)
+            yield settled, (program, state, signs)
+            yield values, (NET, state, signs)
+            yield steps, (NET, state, signs)
+            yield ring, (NET, state, signs)
+
+
+def lists_in(value):
+    """All lists of a value, those within others too."""
+    found = [value] if isinstance(value, list) else []
+    if isinstance(value, (list, tuple)):
+        for inner in value:
+            found += lists_in(inner)
+    return found
 
 
 class HandedIn(unittest.TestCase):
@@ -73,6 +106,41 @@ class GivenBack(unittest.TestCase):
             first.append(99)
             first.reverse()
             self.assertEqual(rests_of(one), told)
+
+
+class AskedOfInstantsAndNets(unittest.TestCase):
+    def test_nothing_handed_in_is_changed(self):
+        for asked, handed in askings():
+            ahead = copy.deepcopy(handed)
+            asked(*handed)
+            self.assertEqual(handed, ahead, asked)
+
+    def test_lists_given_back_are_new_ones(self):
+        for asked, handed in askings():
+            own = lists_in(asked(*handed)) + lists_in(handed)
+            self.assertEqual(len(own), len({id(one) for one in own}), asked)
+
+    def test_changing_what_was_given_back_changes_no_later_answer(self):
+        for asked, handed in askings():
+            told = asked(*handed)
+            kept = copy.deepcopy(told)
+            ahead = copy.deepcopy(handed)
+            for one in lists_in(told):
+                one.append((0, True))
+                one.reverse()
+            self.assertEqual(handed, ahead, asked)
+            self.assertEqual(asked(*handed), kept, asked)
+
+    def test_changing_what_was_handed_in_changes_nothing_told(self):
+        for asked, handed in askings():
+            handed = copy.deepcopy(handed)
+            ahead = copy.deepcopy(handed)
+            told = asked(*handed)
+            kept = copy.deepcopy(told)
+            for one in lists_in(handed):
+                one.clear()
+            self.assertEqual(told, kept, asked)
+            self.assertEqual(asked(*ahead), kept, asked)
 
 
 if __name__ == "__main__":
