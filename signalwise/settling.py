@@ -23,6 +23,10 @@ def settled(program, state, coming):
     return known
 
 
+def signs_that_are(value, known):
+    return [sign for sign, one in enumerate(known) if one == value]
+
+
 def known_at_first(program, coming):
     return [True if sign in coming else None for sign in range(program[2])]
 
@@ -41,5 +45,5 @@ def changes_by(body, known):
         walk = walked(body, None, True, known)
         must = walk[2]
         can = walk[3]
-    waiting = [sign for sign, value in enumerate(known) if value is None]
+    waiting = signs_that_are(None, known)
     return [(sign, sign in must) for sign in waiting if sign in must or sign not in can]

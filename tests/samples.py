@@ -5,6 +5,9 @@ import random
 SIGN_LEAVES = ("send", "keep", "await")
 BARE_LEAVES = ("nothing", "rest", "halt")
 SIGN_ROUND = ("hold", "watch", "weak")
+PLAIN_ROUND = ("again", "hold", "watch", "trap")
+MOST_RESTS = 60
+MOST_TRAPS = 6
 KEPT = ("in out nothing rest halt send keep await if else again hold watch weak trap exit local").split()
 
 
@@ -66,6 +69,43 @@ class Sampler:
         cut = self.chance.randint(0, len(names))
         return (names[:cut], names[cut:], self.block(size, names, []))
 
+    def program(self, size, came, told, signs):
+        """A plain program of just so many parts, made of no named one."""
+        return (came, told, signs, self.plain_part(size, signs, 0, Counter()))
+
+    def plain_part(self, size, signs, traps, rests):
+        if size == 1:
+            return self.plain_leaf(signs, traps, rests)
+        if size > 2 and self.chance.random() < 0.6:
+            left = self.chance.randint(1, size - 2)
+            first = self.plain_part(left, signs, traps, rests)
+            second = self.plain_part(size - 1 - left, signs, traps, rests)
+            word = self.chance.choice(("then", "beside") * 2 + (("if",) if signs else ()))
+            asked = (self.chance.randrange(signs),) if word == "if" else ()
+            return (word, *asked, first, second)
+        words = [word for word in PLAIN_ROUND if self.can_stand(word, signs, traps, rests)] or ["trap"]
+        word = self.chance.choice(words)
+        rests.spoken_for += word == "again"
+        inner = self.plain_part(size - 1, signs, traps + (word == "trap"), rests)
+        rests.spoken_for -= word == "again"
+        if word == "again":
+            return (word, rests.next(), inner)
+        return (word, inner) if word == "trap" else (word, self.chance.randrange(signs), inner)
+
+    def can_stand(self, word, signs, traps, rests):
+        if word == "again":
+            return not rests.full()
+        return traps < MOST_TRAPS if word == "trap" else signs > 0
+
+    def plain_leaf(self, signs, traps, rests):
+        words = ["nothing"] + ["rest"] * 2 * (not rests.full()) + ["send"] * 3 * (signs > 0) + ["exit"] * (traps > 0)
+        word = self.chance.choice(words)
+        if word == "rest":
+            return (word, rests.next())
+        if word == "send":
+            return (word, self.chance.randrange(signs))
+        return (word, self.chance.randrange(traps)) if word == "exit" else (word,)
+
     def some(self, signs):
         """Some of the signs, rising."""
         share = self.chance.choice((0, 0.2, 0.5, 0.8, 1))
@@ -110,6 +150,21 @@ class Sampler:
 
     def braces_more(self):
         return self.chance.random() < 0.1
+
+
+class Counter:
+    """Numbers of rests; an again takes its own behind those within it, but speaks for one ahead of them."""
+
+    def __init__(self):
+        self.count = 0
+        self.spoken_for = 0
+
+    def full(self):
+        return self.count + self.spoken_for == MOST_RESTS
+
+    def next(self):
+        self.count += 1
+        return self.count - 1
 
 
 def open_marks(text):

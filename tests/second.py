@@ -171,3 +171,21 @@ def values(net, state, coming):
             known[number] = value_of(gate, known, state, coming)
         if known == ahead:
             return known
+
+
+def looked(program):
+    """What looking through tells; ("too many",) where it is refused."""
+    ins = range(program[0])
+    lists = [[sign for sign in ins if number >> sign & 1] for number in range(1 << program[0])]
+    found = [(None, [])]
+    for state, way in found:
+        for coming in lists:
+            known = rounds(program, state, coming)[1]
+            if None in known:
+                return "refused", way + [coming], [sign for sign, value in enumerate(known) if value is None]
+            behind = instant(program, state, [sign for sign, value in enumerate(known) if value])[2]
+            if all(behind != other for other, _ in found):
+                found.append((behind, way + [coming]))
+            if len(found) == 41:
+                return ("too many",)
+    return "let", [state for state, _ in found]

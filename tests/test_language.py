@@ -229,12 +229,12 @@ class Names(unittest.TestCase):
                     self.assertNotIn(node.id, taken, (name, node.lineno))
 
     def test_methods(self):
-        methods = own_methods()
-        self.assertFalse(set(methods) & set(own_values()))
+        methods, kept = own_methods(), own_values()
+        self.assertFalse(set(methods) & set(kept))
         for name, tree in trees():
             for node in ast.walk(tree):
                 if isinstance(node, ast.Attribute) and isinstance(node.ctx, ast.Load):
-                    self.assertIn(node.attr, OWN_METHODS + methods + own_values(), (name, node.lineno))
+                    self.assertIn(node.attr, OWN_METHODS + methods + kept, (name, node.lineno))
 
     def test_sets_and_walks_stand_on_the_spot(self):
         for name, tree in trees():

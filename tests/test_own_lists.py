@@ -6,6 +6,8 @@ import unittest
 from samples import Sampler, open_marks
 from signalwise.gates import ring, steps, values
 from signalwise.instants import fits, instant, ran
+from signalwise.looking import comings, looked
+from signalwise.nets import net_of
 from signalwise.plain import plain
 from signalwise.reading import read
 from signalwise.rests import rests_of, resting
@@ -14,13 +16,15 @@ from signalwise.showing import parts, shown
 from signalwise.walking import walked
 
 TEXT = "in a b;out c;local s{again{if a{send s;rest}else{weak b{keep c}}}}"
+LET = "in a;out b;again{rest;if a{send b}}|await a;send b"
+REFUSED = "in a b;out c;rest;rest;await b;await b;if a{if c{send c}}"
 HELD = "in a b;out c d;hold a{rest;send c|await b;send d|again{if c{send d}}}"
 NET = ([("given", (1,)), ("memory", (0,)), ("some", (0, 3)), ("not", (2,)), ("start", ()), ("not", (5,)), ("all", ())],
        [0, 2], (4, 6), [1])
 
 
 def askings():
-    """Each function of the instants, the settling and the gates, with what is handed in to it."""
+    """Each function from the instants on, with what is handed in to it."""
     program = plain(read(HELD))
     for state in (None, [], [0, 1, 2], [1, 2]):
         for signs in ([], [0], [1], [1, 3], [0, 1, 2, 3]):
@@ -34,6 +38,12 @@ def askings():
             yield values, (NET, state, signs)
             yield steps, (NET, state, signs)
             yield ring, (NET, state, signs)
+            yield values, (net_of(program), state, signs)
+    for text in (TEXT, HELD, LET, REFUSED, "in;out;nothing"):
+        yield net_of, (plain(read(text)),)
+        yield looked, (plain(read(text)),)
+    for came in range(6):
+        yield comings, (came,)
 
 
 def lists_in(value):
